@@ -8,6 +8,8 @@ MOST_VALUE = 10 ** 12
 MOST_MONEY = 10 ** 9
 MOST_ORDERED_UNITS = 10 ** 18
 MOST_COUNT = 10 ** 24
+MOST_RATE = 100000
+MOST_DAYS = 366
 
 BEGIN = (0,)
 
@@ -48,6 +50,44 @@ def split(c, k):
     return (9, c, k)
 
 
+def fee(rate, days):
+    return (10, rate, days)
+
+
+VALUES = (11,)
+
+
+def price(c):
+    return (12, c)
+
+
+def worth(c, u):
+    return (13, c, u)
+
+
+def class_(c):
+    return (14, c)
+
+
+FUND_STATE = (15,)
+
+
+def wouldcreate(c, m):
+    return (16, c, m)
+
+
+def wouldcancel(c, u):
+    return (17, c, u)
+
+
+def dearer(c, d):
+    return (18, c, d)
+
+
+def owed(rate, days):
+    return (19, rate, days)
+
+
 def written(calls):
     return [number for call in calls for number in call]
 
@@ -81,7 +121,8 @@ def last(calls, *more):
 
 def probes():
     """Short lines whose answers tell value, classes, units and shares, whatever was called before."""
-    lines = [[result(0)], [result(-1)], [result(1), result(0)], [open_(1), open_(1), open_(1)],
+    lines = [[FUND_STATE, VALUES] + [class_(c) for c in range(1, 7)], [owed(100000, 365)], [fee(100000, 365), VALUES],
+             [result(0)], [result(-1)], [result(1), result(0)], [open_(1), open_(1), open_(1)],
              [open_(1), create(1, 5), result(0)]]
     for c in range(1, 7):
         lines.append([split(c, 2)])

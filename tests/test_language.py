@@ -12,7 +12,7 @@ NODES = {"Module", "Expr", "Assign", "AugAssign", "FunctionDef", "ClassDef", "If
          "Continue", "Pass", "arguments", "arg", "Name", "Load", "Store", "Constant", "List", "Tuple", "Dict",
          "ListComp", "comprehension", "BinOp", "Add", "Sub", "Mult", "FloorDiv", "Mod", "UnaryOp", "USub", "Not",
          "BoolOp", "And", "Or", "Compare", "Eq", "NotEq", "Lt", "LtE", "Gt", "GtE", "In", "NotIn", "IfExp", "Call",
-         "Attribute", "Subscript", "Slice", "ImportFrom", "alias"}
+         "Attribute", "Subscript", "Slice", "ImportFrom", "alias", "Lambda", "keyword"}
 
 OWN_NAMES_OF_PYTHON = {"len", "range", "enumerate", "zip", "min", "max", "sum", "abs", "sorted", "reversed", "int",
                        "str", "bool", "list", "tuple", "dict", "isinstance", "ord", "repr", "any", "all", "divmod"}
@@ -79,6 +79,8 @@ class Language(unittest.TestCase):
                     self.assertIn(type(node.value), (int, str, bool, type(None)))
                 if isinstance(node, (ast.FunctionDef, ast.ClassDef)):
                     self.assertEqual(node.decorator_list, [])
+                if isinstance(node, ast.Call) and node.keywords:
+                    self.assertEqual((node.func.id, [keyword.arg for keyword in node.keywords]), ("sorted", ["key"]))
                 if isinstance(node, ast.arguments):
                     self.assertEqual((node.vararg, node.kwarg, node.kwonlyargs, node.posonlyargs),
                                      (None, None, [], []))

@@ -2,8 +2,9 @@
 
 import unittest
 
-from tests.helper import (LEAST, MOST, MOST_MONEY, MOST_ORDERED_UNITS, MOST_VALUE, ask, cancel, convert,
-                          cost, create, gain, join, last, open_, result, seen, split)
+from tests.helper import (FUND_STATE, LEAST, MOST, MOST_DAYS, MOST_MONEY, MOST_ORDERED_UNITS, MOST_RATE, MOST_VALUE,
+                          VALUES, ask, cancel, class_, convert, cost, create, dearer, fee, gain, join, last, open_, owed,
+                          price, result, seen, split, worth, wouldcancel, wouldcreate)
 
 # Value 100; class 1: 60000000 units and shares; class 2: 40000 units, 40000000 shares; class 3: none.
 FUND = [open_(1), open_(1000), open_(10), create(1, 60), create(2, 40)]
@@ -18,6 +19,8 @@ SIX_CLASSES = [open_(start) for start in range(1, 7)]
 WRONG_CLASSES = [(LEAST, -1), (-1, -1), (0, -1), (4, -4), (5, -4), (6, -4), (7, -1), (MOST, -1)]
 WRONG_MONEY = [LEAST, -1, 0, MOST_MONEY + 1, MOST]
 WRONG_UNITS = [LEAST, -1, 0, MOST_ORDERED_UNITS + 1, MOST]
+WRONG_RATES = [LEAST, -1, MOST_RATE + 1, MOST]
+WRONG_DAYS = [LEAST, -1, 0, MOST_DAYS + 1, MOST]
 
 
 class RefusalCase(unittest.TestCase):
@@ -396,12 +399,206 @@ class SplitRefusals(RefusalCase):
         self.check(MANY_UNITS, split(3, 2), -4)
 
 
+class RateAndDaysCase(RefusalCase):
+    def check_rate_and_days(self, setup, make):
+        for rate in WRONG_RATES:
+            self.check(setup, make(rate, 1), -1)
+        for days in WRONG_DAYS:
+            self.check(setup, make(1, days), -1)
+            self.check(setup, make(0, days), -1)
+        self.check(setup, make(-1, 0), -1)
+        self.check(setup, make(MOST, LEAST), -1)
+
+    def check_ends(self, setup, make, zeros, most):
+        self.assertEqual(last(setup, make(0, 1)), zeros)
+        self.assertEqual(last(setup, make(0, MOST_DAYS)), zeros)
+        self.assertEqual(last(setup, make(1, 1)), zeros)
+        self.assertEqual(last(setup, make(MOST_RATE, MOST_DAYS)), most)
+
+
+class FeeRefusals(RateAndDaysCase):
+    def test_rate_and_days(self):
+        self.check_rate_and_days(FUND, fee)
+        self.check_ends(FUND, fee, [0, 0, 0], [6, 4, 0])
+
+    def test_nothing_to_reckon_by(self):
+        for setup in (NO_CLASSES, NO_SHARES, NO_VALUE, FUND + [cancel(1, 60000000), cancel(2, 40000)]):
+            self.check(setup, fee(0, 1), -9)
+            self.check(setup, fee(MOST_RATE, MOST_DAYS), -9)
+
+    def test_rate_and_days_before_nothing_to_reckon_by(self):
+        for setup in (NO_CLASSES, NO_SHARES, NO_VALUE):
+            self.check_rate_and_days(setup, fee)
+
+    def test_more_than_there_is(self):
+        # Class 2 has a single share, which is worth 1000000.
+        single = [open_(1), open_(1), create(1, 1), convert(1, 2, 1), result(MOST_VALUE - 1)]
+        self.check(single, fee(1, 365), -7)
+        self.check(single, fee(MOST_RATE, MOST_DAYS), -7)
+        self.assertEqual(last(single, fee(1, 364)), [997259, 0])
+
+    def test_rate_and_days_before_more_than_there_is(self):
+        single = [open_(1), open_(1), create(1, 1), convert(1, 2, 1), result(MOST_VALUE - 1)]
+        self.check(single, fee(MOST_RATE, MOST_DAYS + 1), -1)
+        self.check(single, fee(MOST_RATE + 1, MOST_DAYS), -1)
+
+
+class OwedRefusals(RateAndDaysCase):
+    def test_rate_and_days(self):
+        self.check_rate_and_days(FUND, owed)
+        self.check_ends(FUND, owed, [0, 0, 0], [6, 4, 0])
+
+    def test_no_classes(self):
+        self.check(NO_CLASSES, owed(0, 1), -9)
+        self.check(NO_CLASSES, owed(MOST_RATE, MOST_DAYS), -9)
+
+    def test_rate_and_days_before_no_classes(self):
+        self.check_rate_and_days(NO_CLASSES, owed)
+
+    def test_no_shares_and_no_value_are_no_refusal(self):
+        self.assertEqual(last(NO_SHARES, owed(MOST_RATE, MOST_DAYS)), [0, 0])
+        self.assertEqual(last(NO_VALUE, owed(MOST_RATE, MOST_DAYS)), [0, 0, 0])
+
+
+class ValuesRefusals(RefusalCase):
+    def test_no_classes(self):
+        self.check(NO_CLASSES, VALUES, -9)
+        self.assertEqual(last(NO_SHARES, VALUES), [0, 0])
+
+
+class PriceRefusals(RefusalCase):
+    def test_class(self):
+        self.check_classes(FUND, price)
+        self.check(NO_CLASSES, price(1), -4)
+        self.check(NO_CLASSES, price(0), -1)
+
+    def test_no_units(self):
+        self.check(FUND, price(3), -9)
+        self.check(NO_SHARES, price(1), -9)
+        self.check(FUND + [cancel(2, 40000)], price(2), -9)
+
+    def test_class_before_no_units(self):
+        self.check(NO_SHARES, price(3), -4)
+        self.check(NO_SHARES, price(7), -1)
+
+
+class WorthRefusals(RefusalCase):
+    def test_units(self):
+        for units in (LEAST, -1, MOST_ORDERED_UNITS + 1, MOST):
+            self.check(FUND, worth(1, units), -1)
+            self.check(MANY_UNITS, worth(1, units), -1)
+        self.assertEqual(last(FUND, worth(1, 0)), [0])
+        self.assertEqual(last(MANY_UNITS, worth(1, MOST_ORDERED_UNITS)), [0])
+
+    def test_class(self):
+        self.check_classes(FUND, lambda c: worth(c, 0))
+        self.check_classes(FUND, lambda c: worth(c, 1))
+        self.check(NO_CLASSES, worth(1, 0), -4)
+
+    def test_units_before_class(self):
+        for units in (LEAST, -1, MOST_ORDERED_UNITS + 1, MOST):
+            self.check(FUND, worth(4, units), -1)
+
+    def test_more_than_there_is(self):
+        self.check(FUND, worth(1, 60000001), -7)
+        self.check(FUND, worth(1, MOST_ORDERED_UNITS), -7)
+        self.check(FUND, worth(2, 40001), -7)
+        self.check(FUND, worth(3, 1), -7)
+        self.check(NO_SHARES, worth(1, 1), -7)
+        self.check(NO_VALUE, worth(1, 60000001), -7)
+
+    def test_class_before_more_than_there_is(self):
+        self.check(FUND, worth(4, MOST_ORDERED_UNITS), -4)
+        self.check(FUND, worth(7, MOST_ORDERED_UNITS), -1)
+
+
+class ClassRefusals(RefusalCase):
+    def test_class(self):
+        self.check_classes(FUND, class_)
+        self.check(NO_CLASSES, class_(1), -4)
+        self.check(NO_CLASSES, class_(6), -4)
+        self.check(NO_CLASSES, class_(7), -1)
+
+
+class DearerRefusals(RefusalCase):
+    def test_first_class(self):
+        self.check_classes(FUND, lambda c: dearer(c, 2))
+        self.check(NO_CLASSES, dearer(1, 1), -4)
+
+    def test_second_class(self):
+        self.check_classes(FUND, lambda d: dearer(2, d))
+
+    def test_first_class_before_second_class(self):
+        self.check(FUND, dearer(4, 0), -4)
+        self.check(FUND, dearer(4, 7), -4)
+        self.check(FUND, dearer(0, 4), -1)
+        self.check(FUND, dearer(7, 4), -1)
+
+    def test_no_units(self):
+        self.check(FUND, dearer(3, 1), -9)
+        self.check(FUND, dearer(1, 3), -9)
+        self.check(FUND, dearer(3, 3), -9)
+        self.check(NO_SHARES, dearer(1, 2), -9)
+
+    def test_both_classes_before_no_units(self):
+        self.check_classes(FUND, lambda d: dearer(3, d))
+        self.check_classes(FUND, lambda c: dearer(c, 3))
+
+
+class WouldRefusals(RefusalCase):
+    def check_as(self, setup, would, order, refusal):
+        self.check(setup, would, refusal)
+        self.assertEqual(last(setup, would, order), [refusal])
+
+    def test_wouldcreate_is_refused_like_create(self):
+        for setup, c, money, refusal in (
+                (FUND, 1, 0, -1), (FUND, 1, MOST_MONEY + 1, -1), (FUND, 1, LEAST, -1), (FUND, 1, MOST, -1),
+                (FUND, 4, 0, -1), (FUND, 0, 1, -1), (FUND, 7, 1, -1), (FUND, LEAST, 1, -1), (FUND, MOST, 1, -1),
+                (FUND, 4, 1, -4), (NO_CLASSES, 1, 1, -4), (NO_VALUE, 4, 1, -4), (NO_VALUE, 1, 1, -9),
+                (NO_VALUE, 3, MOST_MONEY, -9), (FULL_VALUE, 1, 9999, -6), (FULL_VALUE, 1, 10000, -8),
+                (MANY_UNITS, 1, 1, -8)):
+            self.check_as(setup, wouldcreate(c, money), create(c, money), refusal)
+        self.assertEqual(last(FUND, wouldcreate(1, MOST_MONEY)), [10 ** 15, 10 ** 15])
+        self.assertEqual(last(FUND, wouldcreate(1, 1)), [1000000, 1000000])
+
+    def test_wouldcancel_is_refused_like_cancel(self):
+        for setup, c, units, refusal in (
+                (FUND, 1, 0, -1), (FUND, 1, MOST_ORDERED_UNITS + 1, -1), (FUND, 1, LEAST, -1), (FUND, 1, MOST, -1),
+                (FUND, 4, 0, -1), (FUND, 0, 1, -1), (FUND, 7, 1, -1), (FUND, LEAST, 1, -1), (FUND, MOST, 1, -1),
+                (FUND, 4, 1, -4), (NO_CLASSES, 1, 1, -4), (FUND, 4, MOST_ORDERED_UNITS, -4), (FUND, 1, 60000001, -7),
+                (FUND, 3, 1, -7), (NO_SHARES, 1, 1, -7)):
+            self.check_as(setup, wouldcancel(c, units), cancel(c, units), refusal)
+        self.assertEqual(last(MANY_UNITS, wouldcancel(1, MOST_ORDERED_UNITS)), [0, 1])
+        self.assertEqual(last(MANY_UNITS, wouldcancel(1, 1)), [0, 0])
+
+
+class TheLeastAndTheMostNumber(RefusalCase):
+    def test_in_every_argument_of_every_call(self):
+        calls = [open_(1), create(1, 5), cancel(1, 5), result(5), cost(1, 5), gain(1, 5), convert(1, 2, 5000), join(1, 2),
+                 split(1, 2), fee(5, 5), price(1), worth(1, 5), class_(1), wouldcreate(1, 5), wouldcancel(1, 5),
+                 dearer(1, 2), owed(5, 5)]
+        self.assertEqual([call[0] for call in calls], [number for number in range(1, 20) if number not in (11, 15)])
+        for call in calls:
+            self.assertGreaterEqual(last(FUND, call)[0], 0)
+            for at in range(1, len(call)):
+                for number in (LEAST, MOST):
+                    self.check(FUND, call[:at] + (number,) + call[at + 1:], -1)
+
+
 class AllSixClasses(unittest.TestCase):
     def test_the_sixth_class_takes_part_in_every_call(self):
         found = ask(*SIX_CLASSES, create(6, 6), result(6), cost(6, 3), gain(6, 3), split(6, 2), convert(6, 1, 2),
                     cancel(6, 1999998), create(6, 1), join(6, 5))
         self.assertEqual(found[6:], [[1000000, 6000000], [12], [1500000], [1500000], [2000000], [6, 6],
                                      [11, 5999994], [1, 6], [1, 6]])
+
+    def test_the_sixth_class_is_told_of(self):
+        found = ask(*SIX_CLASSES, create(6, 60), create(5, 40), VALUES, price(6), worth(6, 5000000), class_(6),
+                    FUND_STATE, wouldcreate(6, 1), wouldcancel(6, 1000000), dearer(5, 6), owed(MOST_RATE, 365),
+                    fee(MOST_RATE, 365), VALUES)
+        self.assertEqual(found[8:], [[0, 0, 0, 0, 40, 60], [6000000, 6000000], [30], [10000000, 60000000, 6],
+                                     [100, 100000000, 6], [166666, 1000000], [6, 6000000], [2], [0, 0, 0, 0, 4, 6],
+                                     [0, 0, 0, 0, 4, 6], [0, 0, 0, 0, 36, 54]])
 
 
 if __name__ == "__main__":

@@ -1,8 +1,13 @@
-"""The fund, its classes, and the calls on them.
+"""The calls on a fund, and the answers to a line of them.
 
 A call's function gets the fund and the call's whole numbers and gives back the list of numbers answered.
 It asks for every refusal first and changes the fund only behind the last of them.
 """
+
+from unitclasses.reckoning import (
+    Fund, UnitClass, all_shares, copy_of_fund, money_of_shares, owed_by_classes, rounded_up, shares_for_cost,
+    shares_for_money, shares_of_units, units_for_shares, values_of_classes,
+)
 
 MOST_CLASSES = 6
 MOST_START = 1000000
@@ -12,7 +17,10 @@ MOST_VALUE = 1000000000000
 MOST_COUNT = 1000000000000000000000000
 LEAST_TIMES = 2
 MOST_TIMES = 1000
-FIRST_SHARES_OF_A_COIN = 1000000
+MOST_RATE = 100000
+MOST_DAYS = 366
+# A whole unit is a million units, and its price is told in millionths of a coin.
+PRICE_SCALE = 1000000000000
 
 NO_REFUSAL = 0
 OUT_OF_RANGE = -1
@@ -22,51 +30,9 @@ MORE_THAN_THERE_IS = -7
 TOO_MUCH = -8
 NOTHING_TO_RECKON_BY = -9
 
-
-class UnitClass:
-    def __init__(self, start):
-        self.start = start
-        self.units = 0
-        self.shares = 0
-
-
-class Fund:
-    def __init__(self):
-        self.value = 0
-        self.classes = []
-
-
-def all_shares(fund):
-    return sum([unit_class.shares for unit_class in fund.classes])
-
-
-def shares_for_money(fund, money):
-    before = all_shares(fund)
-    if before == 0:
-        return money * FIRST_SHARES_OF_A_COIN
-    return money * before // fund.value
-
-
-def units_for_shares(unit_class, shares):
-    if unit_class.units == 0:
-        return shares // unit_class.start
-    return unit_class.units * shares // unit_class.shares
-
-
-def shares_of_units(unit_class, units):
-    return unit_class.shares * units // unit_class.units
-
-
-def money_of_shares(fund, shares):
-    return fund.value * shares // all_shares(fund)
-
-
-def shares_for_cost(fund, money):
-    return rounded_up(money * all_shares(fund), fund.value)
-
-
-def rounded_up(dividend, divisor):
-    return (dividend + divisor - 1) // divisor
+NEITHER_IS_DEARER = 0
+FIRST_IS_DEARER = 1
+SECOND_IS_DEARER = 2
 
 
 def is_within(number, least, most):
@@ -85,6 +51,17 @@ def amount_or_class_refusal(fund, amount, least, most, c):
     if not is_within(amount, least, most):
         return OUT_OF_RANGE
     return class_refusal(fund, c)
+
+
+def units_or_class_refusal(fund, units, least, c):
+    refusal = amount_or_class_refusal(fund, units, least, MOST_ORDERED_UNITS, c)
+    if refusal == NO_REFUSAL and fund.classes[c - 1].units < units:
+        return MORE_THAN_THERE_IS
+    return refusal
+
+
+def is_rate_for_days(rate, days):
+    return is_within(rate, 0, MOST_RATE) and is_within(days, 1, MOST_DAYS)
 
 
 def is_too_much_for_fund(fund, money, shares):
@@ -130,12 +107,10 @@ def create(fund, c, money):
 
 
 def cancel(fund, c, units):
-    refusal = amount_or_class_refusal(fund, units, 1, MOST_ORDERED_UNITS, c)
+    refusal = units_or_class_refusal(fund, units, 1, c)
     if refusal != NO_REFUSAL:
         return [refusal]
     unit_class = fund.classes[c - 1]
-    if unit_class.units < units:
-        return [MORE_THAN_THERE_IS]
     shares = shares_of_units(unit_class, units)
     money = money_of_shares(fund, shares)
     fund.value -= money
@@ -188,11 +163,9 @@ def gain(fund, c, money):
 
 
 def convert(fund, c, d, units):
-    refusal = amount_or_class_refusal(fund, units, 1, MOST_ORDERED_UNITS, c)
+    refusal = units_or_class_refusal(fund, units, 1, c)
     if refusal != NO_REFUSAL:
         return [refusal]
-    if fund.classes[c - 1].units < units:
-        return [MORE_THAN_THERE_IS]
     return hand_over(fund, c, d, units)
 
 
@@ -238,6 +211,99 @@ def split_class(fund, c, times):
     return [units]
 
 
+def fee(fund, rate, days):
+    if not is_rate_for_days(rate, days):
+        return [OUT_OF_RANGE]
+    # Where there are no shares the value is 0, too.
+    if fund.value == 0:
+        return [NOTHING_TO_RECKON_BY]
+    amounts = owed_by_classes(fund, rate, days)
+    parts = [shares_for_cost(fund, amount) for amount in amounts]
+    for unit_class, shares in zip(fund.classes, parts):
+        if unit_class.units > 0 and shares >= unit_class.shares:
+            return [MORE_THAN_THERE_IS]
+    for unit_class, shares in zip(fund.classes, parts):
+        add_to_class(unit_class, 0, -shares)
+    fund.value -= sum(amounts)
+    return amounts
+
+
+def class_values(fund):
+    if len(fund.classes) == 0:
+        return [NOTHING_TO_RECKON_BY]
+    return values_of_classes(fund)
+
+
+def price(fund, c):
+    refusal = class_refusal(fund, c)
+    if refusal != NO_REFUSAL:
+        return [refusal]
+    unit_class = fund.classes[c - 1]
+    if unit_class.units == 0:
+        return [NOTHING_TO_RECKON_BY]
+    dividend = fund.value * unit_class.shares * PRICE_SCALE
+    divisor = all_shares(fund) * unit_class.units
+    return [dividend // divisor, rounded_up(dividend, divisor)]
+
+
+def worth(fund, c, units):
+    refusal = units_or_class_refusal(fund, units, 0, c)
+    if refusal != NO_REFUSAL:
+        return [refusal]
+    unit_class = fund.classes[c - 1]
+    if unit_class.units == 0:
+        return [0]
+    # Not by shares_of_units and money_of_shares: a worth is rounded only once.
+    return [fund.value * unit_class.shares * units // (all_shares(fund) * unit_class.units)]
+
+
+def class_state(fund, c):
+    refusal = class_refusal(fund, c)
+    if refusal != NO_REFUSAL:
+        return [refusal]
+    unit_class = fund.classes[c - 1]
+    return [unit_class.units, unit_class.shares, unit_class.start]
+
+
+def fund_state(fund):
+    return [fund.value, all_shares(fund), len(fund.classes)]
+
+
+def would_create(fund, c, money):
+    return create(copy_of_fund(fund), c, money)
+
+
+def would_cancel(fund, c, units):
+    return cancel(copy_of_fund(fund), c, units)
+
+
+def dearer(fund, c, d):
+    for number in [c, d]:
+        refusal = class_refusal(fund, number)
+        if refusal != NO_REFUSAL:
+            return [refusal]
+    first = fund.classes[c - 1]
+    second = fund.classes[d - 1]
+    if first.units == 0 or second.units == 0:
+        return [NOTHING_TO_RECKON_BY]
+    # The quotients are compared by their cross products, so that nothing is rounded.
+    of_first = first.shares * second.units
+    of_second = second.shares * first.units
+    if of_first > of_second:
+        return [FIRST_IS_DEARER]
+    if of_second > of_first:
+        return [SECOND_IS_DEARER]
+    return [NEITHER_IS_DEARER]
+
+
+def owed(fund, rate, days):
+    if not is_rate_for_days(rate, days):
+        return [OUT_OF_RANGE]
+    if len(fund.classes) == 0:
+        return [NOTHING_TO_RECKON_BY]
+    return owed_by_classes(fund, rate, days)
+
+
 CALLS = {
     0: begin,
     1: open_class,
@@ -249,9 +315,22 @@ CALLS = {
     7: convert,
     8: join_class,
     9: split_class,
+    10: fee,
+    11: class_values,
+    12: price,
+    13: worth,
+    14: class_state,
+    15: fund_state,
+    16: would_create,
+    17: would_cancel,
+    18: dearer,
+    19: owed,
 }
 
-ARGUMENT_COUNTS = {0: 0, 1: 1, 2: 2, 3: 2, 4: 1, 5: 2, 6: 2, 7: 3, 8: 2, 9: 2}
+ARGUMENT_COUNTS = {
+    0: 0, 1: 1, 2: 2, 3: 2, 4: 1, 5: 2, 6: 2, 7: 3, 8: 2, 9: 2,
+    10: 2, 11: 0, 12: 1, 13: 2, 14: 1, 15: 0, 16: 2, 17: 2, 18: 2, 19: 2,
+}
 
 
 def answer_call(fund, number, arguments):
